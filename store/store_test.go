@@ -846,18 +846,13 @@ func met(t *testing.T, d *disk.Disk, l []call) (left, would state, over bool) {
 	return left, left, false
 }
 
-// cuts are where a write may be torn: anywhere, if it is the only one.
-func cuts(waiting int) []int {
-	if waiting > 1 {
-		return []int{0, 1, 8, 9, 20, 31, 32}
+// cuts are where a write may be torn: anywhere.
+func cuts() []int {
+	l := []int{-1, 1000}
+	for i := range size + 1 {
+		l = append(l, i)
 	}
-	return append(slices.Collect(func(yield func(int) bool) {
-		for i := range size + 1 {
-			if !yield(i) {
-				return
-			}
-		}
-	}), -1, 1000)
+	return l
 }
 
 // keeps tells the list of bools whose bits are those of mask.
@@ -880,9 +875,6 @@ func TestCrash(t *testing.T) {
 				wantOpened(t, "without a crash", d, left)
 				break
 			}
-			if len(d.Waiting()) > 2 && gen > 1 {
-				continue
-			}
 			holdCrashes(t, gen, n, len(d.Waiting()), left, would)
 		}
 	}
@@ -893,7 +885,7 @@ func holdCrashes(t *testing.T, gen, n, waiting int, left, would state) {
 	t.Helper()
 	for mask := range 1 << waiting {
 		for torn := never; torn < waiting; torn++ {
-			at := cuts(waiting)
+			at := cuts()
 			if torn == never {
 				at = []int{0}
 			}
